@@ -1,0 +1,1 @@
+"""Crewfloor: jobs on a floor of hours."""
