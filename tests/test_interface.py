@@ -2,7 +2,7 @@
 
 import unittest
 
-from crewfloor import errors, floors, plans
+from crewfloor import errors, floors, plans, search, trees, windows
 
 
 class Names(unittest.TestCase):
@@ -11,6 +11,9 @@ class Names(unittest.TestCase):
             (errors, ("FloorError", "BadCrew", "BadJob", "BadOrder", "Ring", "NoRow")),
             (floors, ("look", "heads", "tails")),
             (plans, ("is_plan", "length", "at_work", "laid")),
+            (windows, ("own_windows", "windows", "within", "asked")),
+            (trees, ("shut",)),
+            (search, ("least",)),
         )
         for module, names in listed:
             for name in names:

@@ -1,0 +1,102 @@
+"""Ends of trees, each with the wide windows for which it is still one.
+
+A tree that is found for some own windows is one as well for all windows that are no narrower than these and no
+wider than its wide windows. By them it shows which choices a tree needs.
+"""
+
+from crewfloor.windows import narrowed, own_windows, within
+
+
+class Leaves:
+    """Makes the ends of trees for a limit."""
+
+    def __init__(self, floor, limit):
+        self.floor = floor
+        self.own = own_windows(floor, limit, [])
+        self.found = narrowed(floor, self.own)
+
+    def leaf(self, own, stretch):
+        """A chain, where an own window once narrowed has no hour in it, else the stretch; and its wide windows."""
+        found = narrowed(self.floor, own)
+        for job, (first, last) in enumerate(found):
+            if first > last:
+                chain = self._back(own, found, job) + self._on(own, found, job)[1:]
+                return ("chain", tuple(chain)), self._wide_of_chain(own, chain)
+        return stretch, self._wide_of_stretch(own, found, stretch)
+
+    def _wide_of_chain(self, own, chain):
+        a, b = chain[0], chain[-1]
+        hours = self._hours_of_all_but_last(chain)
+        wide = list(self.own)
+        last = min(wide[b][1], own[a][0] + hours - 1)
+        wide[b] = (wide[b][0], last)
+        wide[a] = (max(wide[a][0], last + 1 - hours), wide[a][1])
+        return wide
+
+    def _wide_of_stretch(self, own, found, stretch):
+        crews, jobs, _ = self.floor
+        _, crew, begin, end = stretch
+        spare = -1 - crews[crew] * (end - begin)
+        parts = []
+        for job, (hours, needs) in enumerate(jobs):
+            asked = within(found[job], hours, begin, end)
+            always = within(self.found[job], hours, begin, end)
+            spare += needs[crew] * asked
+            if needs[crew] > 0 and asked > always:
+                parts.append((needs[crew] * (asked - always), job, asked, always))
+        wide = list(self.own)
+        # What is asked for beyond the crew's size is spared where that frees whole jobs from their choices.
+        for _, job, asked, always in sorted(parts):
+            hours, needs = jobs[job]
+            less = min(spare // needs[crew], asked - always)
+            spare -= less * needs[crew]
+            if asked - less > always:
+                self._hold_first(wide, own, found, job, begin + asked - less - hours)
+                self._hold_last(wide, own, found, job, end - asked + less)
+        return wide
+
+    def _hold_first(self, wide, own, found, job, first):
+        """Cut the wide windows so that the job's narrowed first is no less than this one."""
+        if first > self.found[job][0]:
+            chain = self._back(own, found, job)
+            low, high = wide[chain[0]]
+            wide[chain[0]] = (max(low, first - self._hours_of_all_but_last(chain)), high)
+
+    def _hold_last(self, wide, own, found, job, last):
+        """Cut the wide windows so that the job's narrowed last is no more than this one."""
+        if last < self.found[job][1]:
+            chain = self._on(own, found, job)
+            low, high = wide[chain[-1]]
+            wide[chain[-1]] = (low, min(high, last + self._hours_of_all_but_last(chain)))
+
+    def _back(self, own, found, job):
+        """The chain up to the job that gives its narrowed first."""
+        _, jobs, orders = self.floor
+        chain = [job]
+        while found[chain[0]][0] > own[chain[0]][0]:
+            first = found[chain[0]][0]
+            chain = [a for a, b in orders if b == chain[0] and found[a][0] + jobs[a][0] == first][:1] + chain
+        return chain
+
+    def _on(self, own, found, job):
+        """The chain from the job on that gives its narrowed last."""
+        _, jobs, orders = self.floor
+        chain = [job]
+        while found[chain[-1]][1] < own[chain[-1]][1]:
+            last = found[chain[-1]][1] + jobs[chain[-1]][0]
+            chain = chain + [b for a, b in orders if a == chain[-1] and found[b][1] == last][:1]
+        return chain
+
+    def _hours_of_all_but_last(self, chain):
+        _, jobs, _ = self.floor
+        return sum([jobs[job][0] for job in chain[:-1]])
+
+
+def joined(job, hour, early, late):
+    """The split of two trees, and its wide windows."""
+    tree, wide = early
+    late_tree, late_wide = late
+    both = [(max(a, c), min(b, d)) for (a, b), (c, d) in zip(wide, late_wide)]
+    # The choices of the split itself stand for the other two sides.
+    both[job] = (wide[job][0], late_wide[job][1])
+    return ("split", job, hour, tree, late_tree), both
