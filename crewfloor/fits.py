@@ -49,8 +49,6 @@ class Trial:
 
     def _next_ones(self, firsts, busy):
         """Pairs (start, job) of those that may begin next; none where not all that are left can end in time."""
-        if self._is_short(firsts, busy):
-            return []
         ready = []
         for job in firsts:
             start = self._least_start(job, firsts[job], busy)
@@ -58,6 +56,8 @@ class Trial:
                 return []
             if not any([(other, job) in self.lags for other in firsts]):
                 ready.append((start, job))
+        if self._is_short(firsts, busy):
+            return []
         # One that has ended by the time when another one begins may as well go ahead of it.
         soonest = min([start + self.jobs[job][0] for start, job in ready])
         return sorted([(start, job) for start, job in ready if start < soonest])
@@ -75,9 +75,11 @@ class Trial:
 
     def _least_start(self, job, hour, busy):
         """The least hour from that one on in which the job fits beside those that are busy."""
-        ends = [end for end, _ in busy if end > hour]
         # The busy ones only become fewer, so a job that fits in an hour fits behind it too.
-        return min([begin for begin in [hour] + ends if self._is_fit(job, begin, busy)])
+        for begin in [hour] + [end for end, _ in busy if end > hour]:
+            if self._is_fit(job, begin, busy):
+                return begin
+        return hour
 
     def _is_fit(self, job, hour, busy):
         beside = [self.jobs[other][1] for end, other in busy if end > hour]

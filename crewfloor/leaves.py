@@ -1,10 +1,10 @@
-"""Ends of trees, each with the wide windows for which it is still one.
+"""Ends of trees, and how trees are put together.
 
-A tree that is found for some own windows is one as well for all windows that are no narrower than these and no
-wider than its wide windows. By them it shows which choices a tree needs.
+Each tree goes with wide windows. Wherever all own windows lie within these, it is a tree too, but for branches in
+which a job has no hour left to begin in: there `mended` puts chains. So wide windows show which choices a tree needs.
 """
 
-from crewfloor.windows import narrowed, own_windows, within
+from crewfloor.windows import chosen, narrowed, own_windows, within
 
 
 class Leaves:
@@ -16,7 +16,7 @@ class Leaves:
         self.found = narrowed(floor, self.own)
 
     def leaf(self, own, stretch):
-        """A chain, where an own window once narrowed has no hour in it, else the stretch; and its wide windows."""
+        """A chain where a job has no hour left to begin in, else the stretch; and its wide windows."""
         found = narrowed(self.floor, own)
         for job, (first, last) in enumerate(found):
             if first > last:
@@ -45,7 +45,7 @@ class Leaves:
             if needs[crew] > 0 and asked > always:
                 parts.append((needs[crew] * (asked - always), job, asked, always))
         wide = list(self.own)
-        # What is asked for beyond the crew's size is spared where that frees whole jobs from their choices.
+        # More is asked for than has to be, so the first few of the jobs may ask for less.
         for _, job, asked, always in sorted(parts):
             hours, needs = jobs[job]
             less = min(spare // needs[crew], asked - always)
@@ -100,3 +100,42 @@ def joined(job, hour, early, late):
     # The choices of the split itself stand for the other two sides.
     both[job] = (wide[job][0], late_wide[job][1])
     return ("split", job, hour, tree, late_tree), both
+
+
+def mended(leaves, tree):
+    """The tree for no choices, with chains where a job has no hour left to begin in."""
+    parts = []
+    waiting = [(tree, leaves.own)]
+    while waiting:
+        part, own = waiting.pop()
+        found = narrowed(leaves.floor, own)
+        if any([first > last for first, last in found]):
+            parts.append(leaves.leaf(own, None)[0])
+        elif part[0] == "split":
+            _, job, hour, early, late = part
+            first, last = found[job]
+            # A choice that leaves the job no hour is as good as shut, so the split isn't needed.
+            if first > hour:
+                waiting.append((late, own))
+            elif last <= hour:
+                waiting.append((early, own))
+            else:
+                parts.append(("split", job, hour))
+                waiting.append((late, chosen(own, ("late", job, hour))))
+                waiting.append((early, chosen(own, ("early", job, hour))))
+        else:
+            parts.append(part)
+    return _built(parts)
+
+
+def _built(parts):
+    """The tree of these parts, each split ahead of its early parts and these ahead of its late ones."""
+    trees = []
+    for part in parts[::-1]:
+        if part[0] == "split":
+            early = trees.pop()
+            late = trees.pop()
+            trees.append((*part, early, late))
+        else:
+            trees.append(part)
+    return trees[0]

@@ -1,15 +1,20 @@
-"""The search for a tree, or for a plan where there is none."""
+"""The search for a tree for a limit, or for a plan where there is none."""
 
 from crewfloor.floors import heads
-from crewfloor.leaves import Leaves, joined
+from crewfloor.leaves import Leaves, joined, mended
 from crewfloor.strains import strain
 from crewfloor.windows import chosen, narrowed
 
 OTHER = {"early": "late", "late": "early"}
+# From a window of more pieces no single ones are split off, so that splits don't lie too deep in one another.
+MOST_PIECES = 24
 
 
 class Refuter:
-    """Finds a plan that keeps within a limit, or a tree for it; a tree goes with its wide windows."""
+    """Finds a plan that keeps within a limit, or a tree for it.
+
+    An end or a leaf is a pair of a tree and its wide windows.
+    """
 
     def __init__(self, floor, limit, fits):
         crews, jobs, orders = floor
@@ -19,6 +24,7 @@ class Refuter:
         self.fits = fits
         self.leaves = Leaves(self.floor, limit)
         self.members = [_members(jobs, crew) for crew in range(len(crews))]
+        self.known = {}
 
     def plan_or_tree(self):
         """A plan and None, or None and a tree."""
@@ -31,7 +37,7 @@ class Refuter:
             if starts is not None:
                 return self._whole(starts, found), None
         tree, _ = self._refuted(self.leaves.own, needy)
-        return None, tree
+        return None, mended(self.leaves, tree)
 
     def _whole(self, starts, found):
         """A plan by the starts of those that need crews: the others begin as early as orders let them."""
@@ -39,21 +45,31 @@ class Refuter:
         return [first for first, _ in narrowed(self.floor, own)]
 
     def _refuted(self, own, group):
-        """A tree for the own windows, into which the jobs of the group don't fit."""
+        """An end for the own windows, into which the jobs of the group don't fit."""
         own, cuts, end = self._cut(own)
         if end is None:
             found = narrowed(self.floor, own)
             core = self._core(group, found)
-            job, hour = self._next_split(core, found)
-            end = self._refuted(chosen(own, ("early", job, hour)), core)
-            hour = end[1][job][1]
-            # Where this tree holds for all of the job's hours, it needs no split.
-            if hour < own[job][1]:
-                late = self._refuted(chosen(own, ("late", job, hour)), core)
-                end = joined(job, hour, end, late) if late[1][job][0] > own[job][0] else late
+            end = self._known_end(core, own)
+            if end is None:
+                job, hour = self._next_split(core, found)
+                end = self._refuted(chosen(own, ("early", job, hour)), core)
+                hour = end[1][job][1]
+                # Up to this hour the tree holds anyhow; where that is the last one, it needs no split.
+                if hour < own[job][1]:
+                    late = self._refuted(chosen(own, ("late", job, hour)), core)
+                    end = joined(job, hour, end, late) if late[1][job][0] > own[job][0] else late
+                self.known.setdefault(core, []).append(end)
         for word, job, hour, before, leaf in reversed(cuts):
             end = _behind_cut(word, job, hour, before, leaf, end)
         return end
+
+    def _known_end(self, core, own):
+        """An end that was found for the same core and whose wide windows let the own ones by, or None."""
+        for end in self.known.get(core, []):
+            if _lie_within(own, end[1]):
+                return end
+        return None
 
     def _core(self, group, found):
         """Jobs of the group that don't fit, where all but any one of them do."""
@@ -66,16 +82,22 @@ class Refuter:
         return core
 
     def _next_split(self, core, found):
-        """The job and the hour of the next split: of the job of the core that may begin first."""
+        """The job and the hour of the next split: a piece is split off from that of the core that may end last.
+
+        As splits go on from the last hours, many ways lead to the same windows, for which a tree is known then.
+        """
         _, jobs, _ = self.floor
-        widths = [(found[one][0], found[one][1] - found[one][0], one) for one in core]
-        first, width, job = min([row for row in widths if row[1] > 0])
+        loose = [job for job in core if found[job][0] < found[job][1]]
+        _, width, job = min([(-found[one][1] - jobs[one][0], found[one][1] - found[one][0], one) for one in loose])
+        first, last = found[job]
         hours, _ = jobs[job]
-        # In pieces of as many hours as it has the job is surely at work in one hour.
+        # In a piece of as many hours as the job has, it is surely at work in one hour.
         pieces = width // hours + 1
         if pieces == 1:
             return job, first + width // 2
-        return job, first + pieces // 2 * hours - 1
+        if pieces > MOST_PIECES:
+            return job, first + pieces // 2 * hours - 1
+        return job, last - hours
 
     def _cut(self, own):
         """The own windows without what leaves shut at once, the cuts of this, and a leaf or None.
@@ -115,8 +137,15 @@ def _members(jobs, crew):
     return [(job, hours, needs[crew]) for job, (hours, needs) in enumerate(jobs) if needs[crew] > 0]
 
 
+def _lie_within(own, wide):
+    for (first, last), (low, high) in zip(own, wide):
+        if first < low or last > high:
+            return False
+    return True
+
+
 def _behind_cut(word, job, hour, before, leaf, end):
-    """The tree of the cut and of the end behind it, or the end alone where it needs no cut."""
+    """The end of the cut and what is behind it, or this alone where it doesn't need the cut."""
     first, last = end[1][job]
     if word == "early":
         return joined(job, hour, leaf, end) if first > before[0] else end

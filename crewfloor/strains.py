@@ -1,6 +1,6 @@
 """Stretches in which a crew is short, or would be short if a job began early or late."""
 
-from crewfloor.windows import shared, within
+from crewfloor.windows import shared
 
 
 def strain(crew, size, members, found):
@@ -66,12 +66,14 @@ def _add_cuts(cuts, members, found, left, stretch):
         first, last = found[job]
         if first >= end or last + hours <= begin or need * (end - begin) <= left:
             continue
-        allowed = left // need + within(found[job], hours, begin, end)
-        if shared(first, hours, begin, end) > allowed:
+        at_first = shared(first, hours, begin, end)
+        at_last = shared(last, hours, begin, end)
+        allowed = left // need + min(at_first, at_last)
+        if at_first > allowed:
             hour = end - allowed - 1
             if ("early", job) not in cuts or cuts[("early", job)][0] < hour:
                 cuts[("early", job)] = (hour, stretch)
-        if shared(last, hours, begin, end) > allowed:
+        if at_last > allowed:
             hour = begin + allowed - hours
             if ("late", job) not in cuts or cuts[("late", job)][0] > hour:
                 cuts[("late", job)] = (hour, stretch)

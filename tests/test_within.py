@@ -88,6 +88,10 @@ class Asked(unittest.TestCase):
         self.assertEqual(asked(self.floor, [(4, 2), (99, 99), (9, 0)], 0, 1, 7), 3 * 2)
         self.assertEqual(asked(self.floor, [(4, 2), (99, 99), (9, 0)], 0, 1, 11), 4 * 2 + 2 * 5)
 
+    def test_of_a_crew_that_is_not_there_nothing_is_asked(self):
+        for crew in (-1, -2, 2, 3, HUGE, -HUGE):
+            self.assertEqual(asked(self.floor, [(0, 0), (0, 0), (0, 0)], crew, 0, 5), 0)
+
     def test_against_hour_by_hour(self):
         rng = random.Random(8)
         for _ in range(300):
