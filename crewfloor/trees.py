@@ -10,7 +10,7 @@ def shut(floor, limit, tree):
     waiting = [(tree, own_windows(floor, limit, []))]
     while waiting:
         part, own = waiting.pop()
-        if _is_split(part):
+        if _is_split(floor, part):
             _, job, hour, early, late = part
             waiting.append((late, chosen(own, ("late", job, hour))))
             waiting.append((early, chosen(own, ("early", job, hour))))
@@ -26,8 +26,15 @@ def _is_told(thing, word, many):
     return isinstance(thing[0], str) and thing[0] == word
 
 
-def _is_split(thing):
-    return _is_told(thing, "split", 5) and is_number(thing[1]) and is_number(thing[2])
+def _is_job(floor, thing):
+    """Whether the thing is the number of a job of the floor."""
+    _, jobs, _ = floor
+    return is_number(thing) and 0 <= thing < len(jobs)
+
+
+def _is_split(floor, thing):
+    # Hours of choices are any numbers, but a number that no job has gives no choice.
+    return _is_told(thing, "split", 5) and _is_job(floor, thing[1]) and is_number(thing[2])
 
 
 def _is_shut_chain(floor, own, thing):
@@ -42,10 +49,10 @@ def _is_shut_chain(floor, own, thing):
 
 
 def _is_chain(floor, thing):
-    _, jobs, orders = floor
+    _, _, orders = floor
     if not isinstance(thing, tuple) or not thing:
         return False
-    if not all([is_number(job) and 0 <= job < len(jobs) for job in thing]):
+    if not all([_is_job(floor, job) for job in thing]):
         return False
     return all([pair in orders for pair in zip(thing, thing[1:])])
 

@@ -32,7 +32,7 @@ def asked(floor, found, crew, begin, end):
 def chosen(own, choice):
     """The own windows where one choice more is made."""
     word, job, hour = choice
-    # A choice may be of a job that isn't there, and then no window is narrower by it.
+    # A choice of a job that isn't there is none, so no window is narrower by it.
     return [_cut(word, window, hour) if at == job else window for at, window in enumerate(own)]
 
 

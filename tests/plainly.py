@@ -69,7 +69,7 @@ def is_tree_plainly(floor, limit, choices, thing):
         return told > crews[crew] * (end - begin)
     if thing[0] == "split" and len(thing) == 5:
         word, job, hour, early, late = thing
-        if not is_number_plainly(job) or not is_number_plainly(hour):
+        if not is_number_plainly(job) or not is_number_plainly(hour) or job not in range(len(jobs)):
             return False
         return (is_tree_plainly(floor, limit, choices + [("early", job, hour)], early)
                 and is_tree_plainly(floor, limit, choices + [("late", job, hour)], late))

@@ -18,6 +18,9 @@ CHAINS = ((3, 1), ((2, (0, 0)), (3, (0, 0)), (4, (0, 0)), (5, (0, 0))), ((0, 1),
 # Two jobs that need the whole crew, and one that needs half of it.
 PAIR = ((2,), ((2, (2,)), (3, (2,)), (2, (1,))), ())
 
+# Numbers that no job of CHAINS has: just beside its jobs and far from them.
+NO_JOBS = (-1, -2, -4, 4, 5, 99, 10 ** 9, -10 ** 9, HUGE, -HUGE)
+
 # Three jobs of one hour, no two of which fit side by side, though in two hours there's crew enough for them.
 THREE = ((50,), ((1, (26,)), (1, (26,)), (1, (26,))), ())
 
@@ -55,7 +58,7 @@ class Chains(Shut):
             self.is_none(CHAINS, -100, ("chain", jobs))
 
     def test_a_job_that_is_not_there(self):
-        for stray in (-1, -2, -4, 4, 5, HUGE, -HUGE):
+        for stray in NO_JOBS:
             for jobs in ((stray,), (0, stray), (stray, 1), (0, 1, stray), (-4, -3, -2)):
                 self.is_none(CHAINS, -100, ("chain", jobs))
 
@@ -194,14 +197,45 @@ class Splits(Shut):
         self.is_none(floor, 3, ("split", 0, -1, ("stretch", 0, 0, 3), ("stretch", 0, 2, 3)))
         self.is_none((floor[0], floor[1], ()), 3, ("split", 0, 0, ("stretch", 0, 0, 3), ("stretch", 0, 2, 3)))
 
-    def test_job_and_hour_are_any_numbers(self):
+    def test_the_hour_is_any_number(self):
         leaf = ("chain", (0, 1, 2))
-        for job in (-1, 4, 99, HUGE, -HUGE):
-            for hour in (-1, 0, 3, HUGE, -HUGE):
+        for job in range(4):
+            for hour in (-2, -1, 0, 3, 8, 9, HUGE, -HUGE):
                 self.is_tree(CHAINS, 8, ("split", job, hour, leaf, leaf))
-                # It chooses for no job of the floor.
-                self.is_none(CHAINS, 8, ("split", job, hour, ("chain", (3,)), leaf))
-                self.is_none(CHAINS, 8, ("split", job, hour, leaf, ("chain", (3,))))
+
+    def test_a_job_that_is_not_there_at_the_root(self):
+        leaf = ("chain", (0, 1, 2))
+        for job in NO_JOBS:
+            for hour in (-1, 0, 3, HUGE, -HUGE):
+                self.is_none(CHAINS, 8, ("split", job, hour, leaf, leaf))
+        stretch = ("stretch", 0, 1, 2)
+        for job in (-1, 3, 4, 12, 10 ** 9):
+            self.is_none(PAIR, 3, ("split", job, 1, stretch, stretch))
+
+    def test_a_job_that_is_not_there_below_other_splits(self):
+        leaf = ("chain", (0, 1, 2))
+        for job in NO_JOBS:
+            bad = ("split", job, 1, leaf, leaf)
+            for tree in (("split", 0, 1, bad, leaf), ("split", 0, 1, leaf, bad),
+                         ("split", 3, 2, leaf, ("split", 1, 0, bad, leaf)),
+                         ("split", 3, 2, ("split", 1, 0, leaf, bad), leaf),
+                         ("split", job, 2, ("split", 1, 0, leaf, leaf), leaf)):
+                self.is_none(CHAINS, 8, tree)
+
+    def test_a_job_that_is_not_there_where_its_branches_are_long(self):
+        tree = ("chain", (0, 1, 2))
+        for k in range(200):
+            tree = ("split", k % 4, k, tree, ("chain", (0, 1, 2)))
+        self.is_tree(CHAINS, 8, tree)
+        self.is_none(CHAINS, 8, ("split", 4, 1, tree, tree))
+        self.is_none(CHAINS, 8, ("split", -1, 1, tree, tree))
+
+    def test_each_floor_splits_by_its_own_jobs_only(self):
+        leaf = ("chain", (0,))
+        for many in range(1, 13):
+            floor = ((1,), ((4, (0,)),) * many, ())
+            for job in range(-3, 16):
+                self.assertIs(shut(floor, 3, ("split", job, 1, leaf, leaf)), 0 <= job < many, (many, job))
 
     def test_very_many_splits_within_splits(self):
         leaf = ("chain", (0, 1, 2))
@@ -312,7 +346,7 @@ class AnyThing(Shut):
     def changed(self, rng, tree):
         """The tree with one of its parts changed, or put into a split."""
         if rng.randrange(6) == 0:
-            return ("split", rng.randint(0, 3), rng.randint(-1, 5), tree, tree)
+            return ("split", rng.randint(-1, 4), rng.randint(-1, 5), tree, tree)
         if tree[0] == "split" and rng.randrange(4):
             at = rng.choice((3, 4))
             return tree[:at] + (self.changed(rng, tree[at]),) + tree[at + 1:]
